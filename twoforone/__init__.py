@@ -1,0 +1,1 @@
+"""Twoforone: two stones for one, and how many reach any place."""
