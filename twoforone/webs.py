@@ -57,7 +57,7 @@ def web_of(many, things):
 
 
 def neighbours(web, place):
-    # For those who know already that both are good; so is ties_away.
+    # Unlike tied_to it looks through nothing again: whoever calls it has done so (ties_away likewise).
     return [other for other in range(web[0]) if tie_between(place, other) in web[1]]
 
 
