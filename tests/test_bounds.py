@@ -1,7 +1,8 @@
 import unittest
 
-from tests.things import HUGE, NO_NUMBERS, NO_PLACE_COUNTS, TUPLES, no_places
-from twoforone.bounds import is_place, is_place_count, is_whole, is_whole_within
+from tests.things import HUGE, NO_NUMBERS, NO_PLACE_COUNTS, TUPLES, no_counts, no_places, no_wholes, refusal
+from twoforone.bounds import are_counts, is_place, is_place_count, is_whole, is_whole_within, must_be_within
+from twoforone.errors import NoNumber
 
 
 class Bounds(unittest.TestCase):
@@ -17,6 +18,19 @@ class Bounds(unittest.TestCase):
     def test_bounds_count_as_within(self):
         told = [thing for thing in range(-3, 12) if is_whole_within(thing, 2, 5)]
         self.assertEqual(told, [2, 3, 4, 5])
+
+    def test_numbers_that_must_be_within(self):
+        for thing in (2, 3, 5):
+            self.assertIs(must_be_within(thing, 2, 5), None)
+        for thing in no_wholes(2, 5):
+            self.assertIs(type(refusal(must_be_within, thing, 2, 5)), NoNumber)
+
+    def test_counts(self):
+        for many in range(1, 9):
+            for thing in ((0,) * many, (1,) * many, (HUGE,) * many):
+                self.assertIs(are_counts(many, thing), True)
+            for thing in no_counts(many):
+                self.assertIs(are_counts(many, thing), False)
 
     def test_place_counts(self):
         for thing in range(1, 9):

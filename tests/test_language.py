@@ -13,6 +13,9 @@ OWN_NAMES = set(
     "len range enumerate zip min max sum abs sorted reversed int str bool list tuple dict set frozenset isinstance ord "
     "repr any all divmod Exception ValueError TypeError KeyError IndexError LookupError ZeroDivisionError "
     "ArithmeticError OverflowError RuntimeError NotImplementedError AttributeError StopIteration".split())
+WALKED = ("zip", "enumerate", "reversed", "range")
+WALKED_METHODS = ("items", "keys", "values")
+WALKERS = ("list", "tuple", "dict", "sorted", "sum", "any", "all", "enumerate", "zip", "min", "max")
 METHODS = set(
     "append clear copy count endswith extend find get index insert isalnum isalpha isdigit islower isspace isupper "
     "items join keys ljust lower lstrip partition pop remove replace reverse rfind rjust rpartition rsplit rstrip "
@@ -33,6 +36,22 @@ NODES = (
 
 def defined_in(tree):
     return {node.name for node in tree.body if isinstance(node, (ast.FunctionDef, ast.ClassDef))}
+
+
+def is_call_of(node, names, methods=()):
+    if not isinstance(node, ast.Call):
+        return False
+    if isinstance(node.func, ast.Attribute):
+        return node.func.attr in methods
+    return isinstance(node.func, ast.Name) and node.func.id in names
+
+
+def is_plain(node):
+    if isinstance(node, (ast.Tuple, ast.List)):
+        return all(is_plain(part) for part in node.elts)
+    if isinstance(node, ast.Dict):
+        return all(is_plain(part) and not isinstance(part, (ast.List, ast.Dict)) for part in node.keys + node.values)
+    return isinstance(node, ast.Constant)
 
 
 class Language(unittest.TestCase):
@@ -109,6 +128,68 @@ class Language(unittest.TestCase):
             self.assertTrue(ends, "files draw from one another")
             for stem in ends:
                 drawn.pop(stem)
+
+    def test_the_top_of_a_file(self):
+        for path in FILES:
+            tree = ast.parse(path.read_text("utf-8"))
+            bound = [name.name for row in tree.body if isinstance(row, ast.ImportFrom) for name in row.names]
+            for row in tree.body[1:]:
+                where = f"{path.name}:{row.lineno}"
+                self.assertIsInstance(row, (ast.ImportFrom, ast.FunctionDef, ast.ClassDef, ast.Assign), where)
+                if isinstance(row, ast.Assign):
+                    self.assertTrue(is_plain(row.value), where)
+                    bound.append(row.targets[0].id)
+                elif not isinstance(row, ast.ImportFrom):
+                    bound.append(row.name)
+            self.assertEqual(len(bound), len(set(bound)), path.name)
+
+    def test_locals_are_not_called_like_classes_or_imports(self):
+        for path in FILES:
+            tree = ast.parse(path.read_text("utf-8"))
+            taken = {node.name for node in tree.body if isinstance(node, ast.ClassDef)}
+            taken.update(name.name for row in tree.body if isinstance(row, ast.ImportFrom) for name in row.names)
+            for node in ast.walk(tree):
+                if isinstance(node, ast.arg):
+                    self.assertNotIn(node.arg, taken, f"{path.name}:{node.lineno}")
+                if isinstance(node, ast.Name) and isinstance(node.ctx, ast.Store):
+                    self.assertNotIn(node.id, taken, f"{path.name}:{node.lineno}")
+
+    def test_imports_are_used(self):
+        for path in FILES:
+            tree = ast.parse(path.read_text("utf-8"))
+            used = {node.id for node in ast.walk(tree) if isinstance(node, ast.Name)}
+            for row in tree.body:
+                if isinstance(row, ast.ImportFrom):
+                    self.assertEqual([name.name for name in row.names if name.name not in used], [], path.name)
+
+    def test_walked_on_the_spot(self):
+        on_the_spot = set()
+        for _, node in self.nodes(ast.For, ast.comprehension):
+            on_the_spot.add(ast.dump(node.iter, include_attributes=True))
+        for _, node in self.nodes(ast.Call):
+            if is_call_of(node, WALKERS, ("join",)):
+                on_the_spot.update(ast.dump(given, include_attributes=True) for given in node.args)
+        for where, node in self.nodes(ast.Call):
+            if is_call_of(node, WALKED, WALKED_METHODS):
+                self.assertIn(ast.dump(node, include_attributes=True), on_the_spot, where)
+
+    def test_sets_are_neither_kept_nor_walked(self):
+        kept = 0
+        for path in FILES:
+            tree = ast.parse(path.read_text("utf-8"))
+            for node in ast.walk(tree):
+                if is_call_of(node, ("sorted", "len")) or isinstance(node, ast.Compare):
+                    kept -= sum(is_call_of(given, ("set", "frozenset")) for given in ast.iter_child_nodes(node))
+                kept += is_call_of(node, ("set", "frozenset"))
+        self.assertEqual(kept, 0)
+
+    def test_keywords(self):
+        allowed = {"sorted": ("key", "reverse"), "min": ("key", "default"), "max": ("key", "default"),
+                   "sum": ("start",), "enumerate": ("start",), "zip": ("strict",)}
+        for where, node in self.nodes(ast.Call):
+            for given in node.keywords:
+                self.assertIsInstance(node.func, ast.Name, where)
+                self.assertIn(given.arg, allowed.get(node.func.id, ()), where)
 
     def test_functions(self):
         for where, node in self.nodes(ast.FunctionDef):

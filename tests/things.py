@@ -46,6 +46,85 @@ def no_places(many):
     return NO_NUMBERS + TUPLES + [-1, -many, many, many + 1, 8, 9, HUGE, -HUGE, (0, 1)]
 
 
+def no_wholes(least, most):
+    """What is no whole number from least to most."""
+    return NO_NUMBERS + TUPLES + [least - 1, most + 1, HUGE, -HUGE, (least,), str(least), [most], {least: most}]
+
+
+# Whatever may be handed in, where that stands.
+WHATEVER = NO_NUMBERS + TUPLES + [
+    0, 1, 2, -1, 300, HUGE, -HUGE, (0, 0), (0, 1), (1, 0), [0, 1], [(0, 1)], [(1, 0)], [[0, 1]], [(0, 1), None],
+    [(0, 1, 1)], ((0, 1, 1),), ((0, 1),), [()], [[]], [{}], [None], [True], ["0"], [(0, True)], [(True, 0)], [(0,)],
+    [(0, HUGE)], [(0, 0, 0)], [((1, 1), [(1, 0, 1)])], [((1, 1), [])], ((), ()), ((0,), (0,)), {(0, 1): 1}, [HUGE],
+    ("row", 3), "web 1", (HUGE,), (HUGE, HUGE, HUGE), (-1, 0, 0), (None, None, None), ([0], [0], [0]), "~" * 40,
+    nested(20, lambda thing: (thing, [thing]) if isinstance(thing, int) else [thing]), [nested(19, lambda x: (x,))],
+]
+
+
+def numbers_in(thing):
+    """Whether a thing is a tuple of plain ints, no truths among them."""
+    return type(thing) is tuple and all(type(part) is int for part in thing)
+
+
+def no_counts(many):
+    """What is no tuple with a whole number from nought on for each of so many places."""
+    bare = (0,) * many
+    ones = (1,) * many
+    found = [bare + (0,), bare[1:], ones + (1,), ones[1:], list(bare), list(ones), dict(enumerate(ones)), "1" * many]
+    for part in (-1, -HUGE, True, False, None, "0", "1", [0], (0,), {}, [], nested(18, lambda thing: (thing,))):
+        found += [ones[:at] + (part,) + ones[at + 1:] for at in range(many)]
+    for thing in WHATEVER:
+        if not (numbers_in(thing) and len(thing) == many and min(thing, default=0) >= 0):
+            found.append(thing)
+    return found
+
+
+def no_heaps(web):
+    many = web[0]
+    beyond = [(0,) * at + (301,) + (0,) * (many - at - 1) for at in range(many)]
+    if many > 1:
+        beyond += [(300,) + (0,) * (many - 2) + (1,), (151, 150) + (0,) * (many - 2), (300,) * many]
+    return no_counts(many) + beyond + [(HUGE,) * many]
+
+
+def all_heaps(many, stones):
+    """All heaps of just so many stones, rising."""
+    if many == 1:
+        return [(stones,)]
+    return [(first,) + rest for first in range(stones + 1) for rest in all_heaps(many - 1, stones - first)]
+
+
+def heaps_up_to(many, most):
+    return [heap for stones in range(most + 1) for heap in all_heaps(many, stones)]
+
+
+def slow_neighbours(web, place):
+    return sorted(a + b - place for a, b in web[1] if place in (a, b))
+
+
+def slow_stepped(heap, step):
+    return tuple(
+        stones - 2 * (place == step[0]) + (place == step[1]) for place, stones in enumerate(heap))
+
+
+def slow_steps(web, heap):
+    return [(a, b) for a in range(web[0]) if heap[a] > 1 for b in slow_neighbours(web, a)]
+
+
+def slow_closure(web, heap):
+    """All heaps that come of a heap by steps, itself too, by the plainest search."""
+    found = {heap}
+    rim = [heap]
+    while rim:
+        now = rim.pop()
+        for step in slow_steps(web, now):
+            further = slow_stepped(now, step)
+            if further not in found:
+                found.add(further)
+                rim.append(further)
+    return found
+
+
 def all_ties(many):
     return list(combinations(range(many), 2))
 
