@@ -1,7 +1,7 @@
 import unittest
 
 from tests.things import HUGE, NO_NUMBERS, NO_PLACE_COUNTS, TUPLES, no_counts, no_places, no_wholes, refusal
-from twoforone.bounds import are_counts, is_place, is_place_count, is_whole, is_whole_within, must_be_within
+from twoforone.bounds import are_counts, doubled, is_place, is_place_count, is_whole, is_whole_within, must_be_within
 from twoforone.errors import NoNumber
 
 
@@ -31,6 +31,9 @@ class Bounds(unittest.TestCase):
                 self.assertIs(are_counts(many, thing), True)
             for thing in no_counts(many):
                 self.assertIs(are_counts(many, thing), False)
+
+    def test_doubled(self):
+        self.assertEqual([doubled(3, times) for times in range(5)], [3, 6, 12, 24, 48])
 
     def test_place_counts(self):
         for thing in range(1, 9):

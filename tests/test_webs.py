@@ -4,24 +4,13 @@ from itertools import permutations, product
 
 from tests.things import (
     BARE, CUBE, FULL, GREAT_WEBS, HUGE, MIXED, NO_PAIRS_OF_THREE, NO_PLACE_COUNTS, NO_WEBS, RING, ROW, STAR, TURNED,
-    all_ties, no_places, refusal, webs_up_to,
+    all_ties, no_places, refusal, slow_distances, webs_up_to,
 )
 from twoforone.errors import NoPlace, NoWeb
 from twoforone.webs import far, is_joined, is_tree, is_web, pieces, tied_to, web_of
 
 # The ties are few enough that all webs of up to five places can be looked through.
 WEBS = list(webs_up_to(5)) + GREAT_WEBS
-
-
-def slow_distances(web):
-    """Distances by ways put together through each place in turn, unlike the program's own search."""
-    many, ties = web
-    table = [[0 if a == b else 99 for b in range(many)] for a in range(many)]
-    for a, b in ties:
-        table[a][b] = table[b][a] = 1
-    for mid, a, b in product(range(many), repeat=3):
-        table[a][b] = min(table[a][b], table[a][mid] + table[mid][b])
-    return [[None if length >= 99 else length for length in row] for row in table]
 
 
 class WebCase(unittest.TestCase):

@@ -1,6 +1,6 @@
 """Things that tests of several modules hand in, and what they ask of refusals."""
 
-from itertools import combinations
+from itertools import combinations, product
 
 
 def nested(deep, wrap):
@@ -98,6 +98,17 @@ def heaps_up_to(many, most):
     return [heap for stones in range(most + 1) for heap in all_heaps(many, stones)]
 
 
+def slow_distances(web):
+    """Distances by ways put together through each place in turn, unlike the program's own search."""
+    many, ties = web
+    table = [[0 if a == b else 99 for b in range(many)] for a in range(many)]
+    for a, b in ties:
+        table[a][b] = table[b][a] = 1
+    for mid, a, b in product(range(many), repeat=3):
+        table[a][b] = min(table[a][b], table[a][mid] + table[mid][b])
+    return [[None if length >= 99 else length for length in row] for row in table]
+
+
 def slow_neighbours(web, place):
     return sorted(a + b - place for a, b in web[1] if place in (a, b))
 
@@ -123,6 +134,36 @@ def slow_closure(web, heap):
                 found.add(further)
                 rim.append(further)
     return found
+
+
+def slow_most(web, heap, place):
+    """The greatest number of stones that can lie at a place, by the plainest search."""
+    return max(further[place] for further in slow_closure(web, heap))
+
+
+class SlowFails:
+    """Whether so many stones can't be brought to a place, each heap looked at once."""
+
+    def __init__(self, web, place, many):
+        self.web = web
+        self.place = place
+        self.many = many
+        self.known = {}
+
+    def fails(self, heap):
+        if heap not in self.known:
+            self.known[heap] = heap[self.place] < self.many and all(
+                self.fails(slow_stepped(heap, step)) for step in slow_steps(self.web, heap))
+        return self.known[heap]
+
+    def failing(self, stones):
+        return [heap for heap in all_heaps(self.web[0], stones) if self.fails(heap)]
+
+    def need(self):
+        stones = 0
+        while self.failing(stones):
+            stones += 1
+        return stones
 
 
 def all_ties(many):

@@ -33,3 +33,9 @@ def are_counts(many, thing):
     if not isinstance(thing, tuple) or len(thing) != many:
         return False
     return all([is_whole(part) and part >= 0 for part in thing])
+
+
+def doubled(number, times):
+    for turn in range(times):
+        number = 2 * number
+    return number
