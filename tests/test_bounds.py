@@ -1,8 +1,10 @@
 import unittest
 
 from tests.things import HUGE, NO_NUMBERS, NO_PLACE_COUNTS, TUPLES, no_counts, no_places, no_wholes, refusal
-from twoforone.bounds import are_counts, doubled, is_place, is_place_count, is_whole, is_whole_within, must_be_within
-from twoforone.errors import NoNumber
+from twoforone.bounds import (
+    are_counts, doubled, is_place, is_place_count, is_whole, is_whole_within, must_be_at_most, must_be_within,
+)
+from twoforone.errors import NoNumber, TooGreat
 
 
 class Bounds(unittest.TestCase):
@@ -24,6 +26,12 @@ class Bounds(unittest.TestCase):
             self.assertIs(must_be_within(thing, 2, 5), None)
         for thing in no_wholes(2, 5):
             self.assertIs(type(refusal(must_be_within, thing, 2, 5)), NoNumber)
+
+    def test_numbers_that_must_be_at_most(self):
+        for many in (0, 11, 12):
+            self.assertIs(must_be_at_most(many, 12), None)
+        error = refusal(must_be_at_most, 13, 12)
+        self.assertEqual((type(error), error.many, error.most), (TooGreat, 13, 12))
 
     def test_counts(self):
         for many in range(1, 9):

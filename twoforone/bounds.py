@@ -1,6 +1,6 @@
 """What several modules ask of a single thing: whether it is a whole number, and within which bounds."""
 
-from twoforone.errors import NoNumber
+from twoforone.errors import NoNumber, TooGreat
 
 MOST_PLACES = 8
 MOST_STONES = 300
@@ -18,6 +18,11 @@ def is_whole_within(thing, least, most):
 def must_be_within(thing, least, most):
     if not is_whole_within(thing, least, most):
         raise NoNumber()
+
+
+def must_be_at_most(many, most):
+    if many > most:
+        raise TooGreat(many, most)
 
 
 def is_place_count(thing):

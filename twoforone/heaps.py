@@ -23,14 +23,17 @@ def is_step(web, thing):
     return is_pair(web[0], thing) and tie_between(thing[0], thing[1]) in web[1]
 
 
+def all_steps(web):
+    found = []
+    for place in range(web[0]):
+        found.extend([(place, other) for other in neighbours(web, place)])
+    return found
+
+
 def steps_from(web, heap):
     must_be_web(web)
     must_be_heap(web, heap)
-    found = []
-    for place in range(web[0]):
-        if heap[place] >= 2:
-            found.extend([(place, other) for other in neighbours(web, place)])
-    return found
+    return [step for step in all_steps(web) if heap[step[0]] >= 2]
 
 
 def stepped(heap, step):
