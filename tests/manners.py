@@ -1,4 +1,4 @@
-"""What every question of the interface has in common: refusals in their order, and nothing handed in or told is kept."""
+"""What every question of the interface has in common: how it refuses, and that it keeps nothing."""
 
 import unittest
 from copy import deepcopy

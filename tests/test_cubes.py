@@ -16,7 +16,8 @@ class Need(unittest.TestCase):
 
     def test_worst_written_out(self):
         for d, place, told in (
-            (0, 0, (0,)), (1, 0, (0, 1)), (1, 1, (1, 0)), (2, 0, (0, 0, 0, 3)), (2, 1, (0, 0, 3, 0)), (2, 3, (3, 0, 0, 0)),
+            (0, 0, (0,)), (1, 0, (0, 1)), (1, 1, (1, 0)), (2, 0, (0, 0, 0, 3)), (2, 1, (0, 0, 3, 0)),
+            (2, 3, (3, 0, 0, 0)),
             (3, 0, (0, 0, 0, 0, 0, 0, 0, 7)), (3, 5, (0, 0, 7, 0, 0, 0, 0, 0)), (3, 7, (7, 0, 0, 0, 0, 0, 0, 0)),
         ):
             self.assertEqual(cube_worst(d, place), told)
@@ -64,7 +65,8 @@ class Steps(unittest.TestCase):
                 self.check_steps(3, tuple(8 if at == other else 0 for at in range(8)), place)
 
     def test_more_stones(self):
-        for heap in ((300,), (0,) * 7 + (300,), (0, 1, 1, 1, 1, 1, 1, 294), (0, 0, 0, 1, 0, 9, 40, 3), (38, 37) + (0,) * 6):
+        for heap in ((300,), (0,) * 7 + (300,), (0, 1, 1, 1, 1, 1, 1, 294), (0, 0, 0, 1, 0, 9, 40, 3),
+                     (38, 37) + (0,) * 6):
             d = {1: 0, 8: 3}[len(heap)]
             for place in range(len(heap)):
                 self.check_steps(d, heap, place)

@@ -15,7 +15,8 @@ TRIANGLE = (3, ((0, 1), (0, 2), (1, 2)))
 FOUR = (4, ((0, 1), (1, 2), (2, 3)))
 ROUND = (4, ((0, 1), (0, 3), (1, 2), (2, 3)))
 PARTED = (4, ((0, 1), (2, 3)))
-SMALL = list(webs_up_to(3)) + [FOUR, ROUND, PARTED, (4, ((0, 1), (0, 2), (0, 3))), (4, ((0, 1), (0, 2), (0, 3), (1, 2)))]
+SMALL = list(webs_up_to(3)) + [FOUR, ROUND, PARTED, (4, ((0, 1), (0, 2), (0, 3))),
+                               (4, ((0, 1), (0, 2), (0, 3), (1, 2)))]
 # Heaps of twelve stones on great webs, and some of fewer.
 GREAT = [
     (ROW, (0, 3, 0, 4, 0, 2, 3, 0)), (RING, (12, 0, 0, 0, 0, 0, 0, 0)), (STAR, (0, 3, 3, 3, 1, 1, 1, 0)),
@@ -249,9 +250,11 @@ class GetManners(manners.Manners):
                  [((THREE, (13, 0, 0), 0), TOO_GREAT)]),
         Question(reach, (WEB, HEAP, PLACE, number(1, 300)), [(THREE, (4, 0, 0), 2, 1), (THREE, (4, 0, 0), 2, 2)],
                  [((THREE, (13, 0, 0), 0, 1), TOO_GREAT)]),
-        Question(reached, (WEB, HEAP), [(THREE, (4, 0, 1)), (FULL, (2, 1) + (0,) * 6)], [((THREE, (1, 0, 12)), TOO_GREAT)]),
+        Question(reached, (WEB, HEAP), [(THREE, (4, 0, 1)), (FULL, (2, 1) + (0,) * 6)],
+                 [((THREE, (1, 0, 12)), TOO_GREAT)]),
         Question(closed_holds, (WEB, HEAP, PLACE, number(1, 300), THING), [
-            (THREE, (1, 0, 0), 2, 1, [(1, 0, 0)]), (THREE, (13, 0, 0), 2, 1, [(13, 0, 0)]), (FULL, (1,) * 8, 0, 2, None)]),
+            (THREE, (1, 0, 0), 2, 1, [(1, 0, 0)]), (THREE, (13, 0, 0), 2, 1, [(13, 0, 0)]),
+            (FULL, (1,) * 8, 0, 2, None)]),
         Question(closed_for, (WEB, HEAP, PLACE, number(1, 300)), [(THREE, (4, 0, 0), 2, 1), (THREE, (4, 0, 0), 2, 2)],
                  [((THREE, (0, 13, 0), 0, 1), TOO_GREAT)]),
     )

@@ -15,7 +15,8 @@ ROUND = (4, ((0, 1), (0, 3), (1, 2), (2, 3)))
 NO_STEPS_OF_THREE = [
     thing for thing in WHATEVER if thing not in ((0, 1), (1, 0))] + [
     (0, 2), (2, 0), (0, 0), (1, 1), (2, 3), (3, 2), (-1, 0), (0, -1), (1, HUGE), (0, 1, 0), (0, 1, 1), (1,), [0, 1],
-    [1, 0], (True, 0), (0, True), (False, 1), (1, False), (True, 2), (2, True), (None, 1), (1, None), ("0", 1), ((0, 1),),
+    [1, 0], (True, 0), (0, True), (False, 1), (1, False), (True, 2), (2, True), (None, 1), (1, None), ("0", 1),
+    ((0, 1),),
     (0, [1]), ([0], 1), {0: 1}, "01", "0>1",
 ]
 
@@ -24,7 +25,8 @@ class IsHeap(unittest.TestCase):
     def test_heaps(self):
         for web in [(1, ()), THREE, ROUND] + GREAT_WEBS:
             many = web[0]
-            for heap in ((0,) * many, (1,) * many, (37,) * many, (300,) + (0,) * (many - 1), (0,) * (many - 1) + (300,)):
+            for heap in ((0,) * many, (1,) * many, (37,) * many, (300,) + (0,) * (many - 1),
+                         (0,) * (many - 1) + (300,)):
                 self.assertIs(is_heap(web, heap), True, heap)
 
     def test_three_hundred_in_all(self):

@@ -44,7 +44,8 @@ NO_KINDS += [("tree", thing) for thing in NO_NUMBERS + TUPLES if thing != (None,
 NO_KINDS += [[word, sizes[0]] for word, sizes in SIZES.items()] + [["tree", (None,)]]
 NO_KINDS += [(word,) for word in SIZES] + [(word, sizes[0], sizes[0]) for word, sizes in SIZES.items()]
 NO_KINDS += [(sizes[0], word) for word, sizes in SIZES.items()] + [(sizes[0],) for sizes in SIZES.values()]
-NO_KINDS += [("tree",), ("tree", (None,), None), ("tree", (None, 0), 2), ((None, 0), "tree"), ("tree", 3), ("tree", "0")]
+NO_KINDS += [("tree",), ("tree", (None,), None), ("tree", (None, 0), 2), ((None, 0), "tree"), ("tree", 3),
+             ("tree", "0")]
 NO_KINDS += [(word, 3) for word in ("", "rows", "Row", "ROW", " row", "row ", "web", "path", "t", "~")]
 NO_KINDS += [(word, 3) for word in (None, True, 0, 3, HUGE, [], ["row"], {}, {"row": 3}, ("row",), ())]
 NO_KINDS += [(word, (None, 0)) for word in SIZES] + [(word, [3]) for word in SIZES] + ["row", "row 3", "cube"]
@@ -52,7 +53,8 @@ NO_KINDS += [thing for thing in WHATEVER if thing != ("row", 3)]
 NO_KINDS += [{"row": 3}, {0: "row", 1: 3}, ("row", nested(19, lambda thing: (thing,)))]
 # Trees: a place told itself or one behind it, a first thing that is not None, of no or nine things, other forms.
 NO_OVERS = [
-    (), (None,) + (0,) * 8, (None, 0, 1, 2, 3, 4, 5, 6, 7), (0,), (0, 0), (-1, 0), (False, 0), ([], 0), ("", 0), (0, 0, 1),
+    (), (None,) + (0,) * 8, (None, 0, 1, 2, 3, 4, 5, 6, 7), (0,), (0, 0), (-1, 0), (False, 0), ([], 0), ("", 0),
+    (0, 0, 1),
     (None, 1), (None, 0, 2), (None, 0, 3), (None, 0, 0, 3), (None, 2, 0), (None, 0, 1, 7), (None, 0, HUGE),
     (None, -1), (None, 0, -1), (None, -HUGE), (None, None), (None, 0, None), (None, False), (None, 0, True),
     (None, 0, False), (None, "0"), (None, 0, "1"), (None, [0]), (None, (0,)), (None, {}), (None, 0, []),

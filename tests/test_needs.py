@@ -27,7 +27,8 @@ SHAPES = [
     (4, ((0, 1), (1, 2), (2, 3))), (4, ((0, 1), (0, 2), (0, 3))), (4, ((0, 1), (0, 3), (1, 2), (2, 3))),
     (4, ((0, 1), (0, 2), (1, 2), (2, 3))), (4, ((0, 1), (0, 2), (0, 3), (1, 2), (2, 3))), web_for(("full", 4)),
 ]
-NOT_JOINED = [(2, ()), (3, ((0, 1),)), (4, ((0, 3), (1, 2))), (6, ((0, 1), (1, 2), (2, 3), (3, 4))), BARE, MIXED, (7, ())]
+NOT_JOINED = [(2, ()), (3, ((0, 1),)), (4, ((0, 3), (1, 2))), (6, ((0, 1), (1, 2), (2, 3), (3, 4))), BARE, MIXED,
+              (7, ())]
 TOO_GREAT = [ROW, RING, CUBE, FULL, STAR, TURNED, web_for(("row", 7)), web_for(("ring", 7)), web_for(("full", 7))]
 
 
@@ -66,7 +67,8 @@ class AgainstASlowSearch(unittest.TestCase):
 
     def test_five_and_six_places(self):
         for web in (
-            web_for(("ring", 5)), web_for(("star", 4)), web_for(("full", 5)), (5, ((0, 1), (0, 2), (1, 2), (2, 3), (2, 4))),
+            web_for(("ring", 5)), web_for(("star", 4)), web_for(("full", 5)),
+            (5, ((0, 1), (0, 2), (1, 2), (2, 3), (2, 4))),
             web_for(("full", 6)), (6, ((0, 1), (0, 2), (0, 3), (0, 5), (1, 4), (2, 4), (3, 4), (4, 5))),
         ):
             self.check_web(web, 1)
@@ -114,7 +116,8 @@ class Known(unittest.TestCase):
             self.assertEqual(need_all(web, 1), (n + 2, list(range(1, n + 1))))
 
     def test_trees(self):
-        for web in [web for web in webs_up_to(5) if is_tree(web)][::5] + [(6, ((0, 1), (1, 2), (1, 3), (3, 4), (3, 5)))]:
+        trees = [web for web in webs_up_to(5) if is_tree(web)][::5]
+        for web in trees + [(6, ((0, 1), (1, 2), (1, 3), (3, 4), (3, 5)))]:
             for place in range(web[0]):
                 for times in (1, 2):
                     self.assertEqual(need(web, place, times), tree_need(web, place, times))

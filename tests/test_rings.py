@@ -227,7 +227,8 @@ class SweepHolds(unittest.TestCase):
         for row in no_counts(2):
             self.assertIs(sweep_holds(3, (0, 0, 0), 0, (good, row)), False, row)
             self.assertIs(sweep_holds(3, (0, 0, 0), 0, (row, good)), False, row)
-        for thing in ((good,), (good, good, good), [good, good], good, (good, None), {0: good, 1: good}, (list(good), good),
+        for thing in ((good,), (good, good, good), [good, good], good, (good, None), {0: good, 1: good},
+                      (list(good), good),
                       ((0, False), good), (good, (False, 0)), ((0, 1), good), (good, (0, 1)), ((0, 0, 0), good)):
             self.assertIs(sweep_holds(3, (0, 0, 0), 0, thing), False, thing)
         self.assertIs(sweep_holds(3, (0, 0, 0), 0, (good, good)), True)

@@ -29,7 +29,8 @@ def small_tallies(web, times):
 
 def slow_left(heap, tally):
     return tuple(
-        stones - 2 * sum(often for a, b, often in tally if a == place) + sum(often for a, b, often in tally if b == place)
+        stones - 2 * sum(often for a, b, often in tally if a == place) + sum(often for a, b,
+                                                                             often in tally if b == place)
         for place, stones in enumerate(heap))
 
 
@@ -77,8 +78,10 @@ class IsTally(unittest.TestCase):
 
     def test_what_is_no_step(self):
         for row in (
-            (0, 2, 1), (2, 0, 1), (0, 0, 1), (0, 3, 1), (-1, 0, 1), (0, True, 1), (False, 1, 1), (None, 1, 1), (0, "1", 1),
-            ([0], 1, 1), (0, {}, 1), (0, 1), (0, 1, 1, 1), (0, 1, 1, None), ((0, 1), 1), [0, 1, 1], (), None, 5, "011", {},
+            (0, 2, 1), (2, 0, 1), (0, 0, 1), (0, 3, 1), (-1, 0, 1), (0, True, 1), (False, 1, 1), (None, 1, 1),
+            (0, "1", 1),
+            ([0], 1, 1), (0, {}, 1), (0, 1), (0, 1, 1, 1), (0, 1, 1, None), ((0, 1), 1), [0, 1, 1], (), None, 5, "011",
+            {},
         ):
             self.assertIs(is_tally(THREE, (row,)), False, row)
             self.assertIs(is_tally(THREE, (row, (2, 1, 1))), False, row)
@@ -116,7 +119,8 @@ class TallyOf(unittest.TestCase):
             if not isinstance(thing, list):
                 self.check_refused(-1, thing)
         for thing in (
-            (0, 2), (0, 0), (0, 3), (-1, 0), (0, True), (False, 1), [0, 1], (0, 1, 1), (0,), (), None, 1, "01", {}, [], ([], 1),
+            (0, 2), (0, 0), (0, 3), (-1, 0), (0, True), (False, 1), [0, 1], (0, 1, 1), (0,), (), None, 1, "01", {}, [],
+            ([], 1),
         ):
             self.check_refused(0, [thing])
             self.check_refused(1, [(0, 1), thing])

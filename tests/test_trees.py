@@ -23,13 +23,15 @@ TREES = [web for web in webs_up_to(5) if len(web[1]) == web[0] - 1 and None not 
 SMALL_TREES = [web for web in TREES if web[0] <= 4]
 GREAT_TREES = [ROW, STAR, TURNED, BUSH, BROOM, (6, ((0, 5), (1, 5), (2, 4), (3, 4), (4, 5))),
                (7, ((0, 1), (0, 2), (0, 3), (1, 4), (2, 5), (3, 6)))]
-NO_TREES = [(2, ()), (3, ((0, 1),)), (3, ((0, 1), (0, 2), (1, 2))), (4, ((0, 1), (0, 2), (1, 2))), (4, ((0, 1), (2, 3))),
+NO_TREES = [(2, ()), (3, ((0, 1),)), (3, ((0, 1), (0, 2), (1, 2))), (4, ((0, 1), (0, 2), (1, 2))),
+            (4, ((0, 1), (2, 3))),
             (4, ((0, 1), (0, 3), (1, 2), (2, 3))), RING, CUBE, FULL, BARE, MIXED]
 NOT_TREE = Role(NotTree, None)
 
 
 def slow_height(web, place, inner):
-    return max([1 + slow_height(web, other, place) for other in slow_neighbours(web, place) if other != inner], default=0)
+    return max([1 + slow_height(web, other, place) for other in slow_neighbours(web, place) if other != inner],
+               default=0)
 
 
 def slow_heights(web, root):
@@ -97,7 +99,8 @@ class Ways(unittest.TestCase):
     def test_written_out(self):
         for web, root, told in (
             (ONE, 0, []), (TWO, 0, [(0, 1)]), (TWO, 1, [(1, 0)]), (THREE, 0, [(0, 1, 2)]), (THREE, 1, [(1, 0), (1, 2)]),
-            (FORK, 0, [(0, 1, 3, 4), (1, 2)]), (FORK, 1, [(1, 3, 4), (1, 0), (1, 2)]), (FORK, 4, [(4, 3, 1, 0), (1, 2)]),
+            (FORK, 0, [(0, 1, 3, 4), (1, 2)]), (FORK, 1, [(1, 3, 4), (1, 0), (1, 2)]),
+            (FORK, 4, [(4, 3, 1, 0), (1, 2)]),
             (ROW, 7, [(7, 6, 5, 4, 3, 2, 1, 0)]), (ROW, 3, [(3, 4, 5, 6, 7), (3, 2, 1, 0)]),
             (STAR, 0, [(0, at) for at in range(1, 8)]), (STAR, 3, [(3, 0, 1)] + [(0, at) for at in (2, 4, 5, 6, 7)]),
             (BUSH, 0, [(0, 1, 4, 7), (0, 2, 5), (1, 3), (2, 6)]),
@@ -125,7 +128,8 @@ class Need(unittest.TestCase):
     def test_written_out(self):
         for web, root, once, twice in (
             (ONE, 0, 1, 2), (TWO, 0, 2, 4), (TWO, 1, 2, 4), (THREE, 0, 4, 8), (THREE, 1, 3, 5), (FORK, 0, 9, 17),
-            (FORK, 1, 6, 10), (ROW, 0, 128, 256), (ROW, 7, 128, 256), (ROW, 3, 23, 39), (STAR, 0, 8, 10), (STAR, 1, 9, 13),
+            (FORK, 1, 6, 10), (ROW, 0, 128, 256), (ROW, 7, 128, 256), (ROW, 3, 23, 39), (STAR, 0, 8, 10),
+            (STAR, 1, 9, 13),
             (BUSH, 0, 13, 21), (TURNED, 0, 128, 256),
         ):
             self.assertEqual(tree_need(web, root, 1), once)
@@ -135,7 +139,8 @@ class Need(unittest.TestCase):
         for web, root, once, twice in (
             (ONE, 0, (0,), (1,)), (TWO, 0, (0, 1), (0, 3)), (THREE, 0, (0, 0, 3), (0, 0, 7)),
             (THREE, 1, (1, 0, 1), (3, 0, 1)), (FORK, 0, (0, 0, 1, 0, 7), (0, 0, 1, 0, 15)),
-            (ROW, 3, (7, 0, 0, 0, 0, 0, 0, 15), (7, 0, 0, 0, 0, 0, 0, 31)), (STAR, 0, (0,) + (1,) * 7, (0, 3) + (1,) * 6),
+            (ROW, 3, (7, 0, 0, 0, 0, 0, 0, 15), (7, 0, 0, 0, 0, 0, 0, 31)),
+            (STAR, 0, (0,) + (1,) * 7, (0, 3) + (1,) * 6),
             (STAR, 3, (0, 3, 1, 0, 1, 1, 1, 1), (0, 7, 1, 0, 1, 1, 1, 1)),
             (BUSH, 0, (0, 0, 0, 1, 0, 3, 1, 7), (0, 0, 0, 1, 0, 3, 1, 15)),
         ):

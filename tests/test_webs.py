@@ -2,6 +2,8 @@ import unittest
 from copy import deepcopy
 from itertools import permutations, product
 
+from tests import manners
+from tests.manners import PLACE, WEB, Question
 from tests.things import (
     BARE, CUBE, FULL, GREAT_WEBS, HUGE, MIXED, NO_PAIRS_OF_THREE, NO_PLACE_COUNTS, NO_WEBS, RING, ROW, STAR, TURNED,
     all_ties, no_places, refusal, slow_distances, webs_up_to,
@@ -344,6 +346,16 @@ class ListsAreTheAskersOwn(WebCase):
                 for other in tied_to(web, place):
                     self.assertEqual(far(web, place, other), 1)
         self.assertEqual(web_of(web[0], list(web[1])), web)
+
+
+class WebManners(manners.Manners):
+    questions = (
+        Question(tied_to, (WEB, PLACE), [(RING, 3), (MIXED, 2), ((1, ()), 0)]),
+        Question(far, (WEB, PLACE, PLACE), [(RING, 3, 7), (MIXED, 0, 1), ((1, ()), 0, 0)]),
+        Question(pieces, (WEB,), [(RING,), (MIXED,), ((1, ()),)]),
+        Question(is_joined, (WEB,), [(RING,), (MIXED,), ((1, ()),)]),
+        Question(is_tree, (WEB,), [(RING,), (MIXED,), ((1, ()),)]),
+    )
 
 
 if __name__ == "__main__":
