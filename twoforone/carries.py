@@ -2,7 +2,7 @@
 
 from twoforone.bounds import are_counts
 from twoforone.heaps import must_be_heap
-from twoforone.trees import inner_ones, must_be_tree, outer_ones, outwards
+from twoforone.trees import inner_neighbours, must_be_tree, outer_neighbours, outwards
 from twoforone.webs import must_be_place, must_be_web, ties_away
 
 
@@ -18,7 +18,7 @@ def gathered(heap, outer, carried, place):
 
 
 def carried_to(web, heap, root):
-    outer = outer_ones(web, root)
+    outer = outer_neighbours(web, root)
     carried = [0] * web[0]
     for place in reversed(outwards(web, root)):
         stones = gathered(heap, outer, carried, place)
@@ -34,7 +34,7 @@ def carries(web, heap, place):
 def tree_steps(web, heap, place):
     must_be_rooted(web, heap, place)
     carried = carried_to(web, heap, place)
-    inner = inner_ones(web, place)
+    inner = inner_neighbours(web, place)
     away = ties_away(web, place)
     steps = []
     for other in sorted(range(web[0]), key=lambda at: (-away[at], at)):
@@ -47,7 +47,7 @@ def carry_holds(web, heap, place, thing):
     must_be_rooted(web, heap, place)
     if not are_counts(web[0], thing):
         return False
-    outer = outer_ones(web, place)
+    outer = outer_neighbours(web, place)
     for other in range(web[0]):
         stones = gathered(heap, outer, thing, other)
         most = thing[other] if other == place else 2 * thing[other] + 1

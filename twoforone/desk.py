@@ -16,7 +16,6 @@ QUESTIONS = {"heap": 0, "ties": 0, "steps": 0, "far": 2, "most": 1, "reached": 0
 
 
 def parsed(row):
-    # The word of a row and the numbers behind it.
     if not isinstance(row, str):
         raise NoRow()
     words = row.split(" ")
@@ -62,7 +61,7 @@ def step_done(web, heap, one, other):
 
 
 def after(web, heap, word, numbers):
-    # The web and the heap behind a deed, but for going back.
+    # Nothing is changed here, so a deed that is refused leaves the desk as it was.
     if word == "web":
         return bare(web_of(numbers[0], []))
     if word == "tie":

@@ -8,7 +8,7 @@ MOST_SEARCHED = 12
 
 
 def heaps_behind(web, heap):
-    # Each heap that comes, with the heap and the step that it first came of; None for the heap itself.
+    # The heap and the step that each one first came of are kept, so that the way to it can be told.
     steps = all_steps(web)
     found = {heap: None}
     rim = [heap]

@@ -44,7 +44,7 @@ def stepped(heap, step):
 
 
 def walk(web, heap, thing):
-    # The heaps behind the steps that can be done, and what is wrong with the first thing that can't, or None.
+    # What is wrong is told beside the heaps: whether a step can be done shows on the way alone.
     if not isinstance(thing, list):
         return ([], ("list", 0))
     heaps = []

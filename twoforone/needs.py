@@ -44,8 +44,7 @@ def level_above(level, steps, place, m):
     return above
 
 
-def failing(web, place, m, most):
-    # The heaps that fail, by how many stones they have, up to so many.
+def failing_levels(web, place, m, most):
     steps = all_steps(web)
     levels = []
     level = {tuple([0] * web[0]): True}
@@ -59,14 +58,14 @@ def fails(web, place, m, stones):
     must_be_wanted(web, place, m)
     must_be_within(stones, 0, MOST_STONES)
     must_be_counted(web)
-    levels = failing(web, place, m, stones)
+    levels = failing_levels(web, place, m, stones)
     return sorted(levels[stones]) if stones < len(levels) else []
 
 
 def all_failing(web, place, m):
     must_be_wanted(web, place, m)
     must_be_counted(web)
-    return failing(web, place, m, MOST_STONES)
+    return failing_levels(web, place, m, MOST_STONES)
 
 
 def need(web, place, m):

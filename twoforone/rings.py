@@ -35,8 +35,7 @@ def must_fit_ring(n, heap, place):
     must_be_place(web, place)
 
 
-def orders(n, place):
-    # The other places as the sweeps upwards and downwards come to them.
+def sweep_orders(n, place):
     upwards = [(place + at) % n for at in range(1, n)]
     return (upwards, list(reversed(upwards)))
 
@@ -52,7 +51,7 @@ def swept(heap, order):
 
 def sweeps(n, heap, place):
     must_fit_ring(n, heap, place)
-    return tuple([swept(heap, order)[-1] for order in orders(n, place)])
+    return tuple([swept(heap, order)[-1] for order in sweep_orders(n, place)])
 
 
 def sweep_steps(heap, order, place):
@@ -66,7 +65,7 @@ def ring_steps(n, heap, place):
     must_fit_ring(n, heap, place)
     if heap[place] > 0:
         return []
-    for order in orders(n, place):
+    for order in sweep_orders(n, place):
         if swept(heap, order)[-1] > 0:
             return sweep_steps(heap, order, place)
     return None
@@ -87,4 +86,4 @@ def sweep_holds(n, heap, place, thing):
     must_fit_ring(n, heap, place)
     if not isinstance(thing, tuple) or len(thing) != 2 or heap[place] > 0:
         return False
-    return all([bounds_sweep(heap, order, numbers) for order, numbers in zip(orders(n, place), thing)])
+    return all([bounds_sweep(heap, order, numbers) for order, numbers in zip(sweep_orders(n, place), thing)])

@@ -3,32 +3,31 @@
 from twoforone.bars import lowest
 from twoforone.bounds import doubled, is_whole
 from twoforone.heaps import is_step
-from twoforone.rings import orders, ring_of_places
-from twoforone.trees import heights_from, inner_ones, must_be_tree, outwards
+from twoforone.rings import ring_of_places, sweep_orders
+from twoforone.trees import heights_from, inner_neighbours, must_be_tree, outwards
 from twoforone.webs import must_be_place, must_be_web
 
 
-def is_branch_row(web, root, ahead, thing):
-    # Ahead holds the weights of the places in the rows ahead of this one.
+def is_branch_row(web, root, weights_ahead, thing):
     if not isinstance(thing, tuple) or len(thing) != 3:
         return False
     if not is_step(web, thing[:2]) or not is_whole(thing[2]) or thing[2] < 1:
         return False
-    if thing[0] == root or thing[0] in ahead:
+    if thing[0] == root or thing[0] in weights_ahead:
         return False
     if thing[1] == root:
         return True
-    return thing[1] in ahead and 2 * thing[2] <= ahead[thing[1]]
+    return thing[1] in weights_ahead and 2 * thing[2] <= weights_ahead[thing[1]]
 
 
 def are_branch_rows(web, root, thing):
     if not isinstance(thing, list) or len(thing) == 0:
         return False
-    ahead = {}
+    weights_ahead = {}
     for row in thing:
-        if not is_branch_row(web, root, ahead, row):
+        if not is_branch_row(web, root, weights_ahead, row):
             return False
-        ahead[row[0]] = row[2]
+        weights_ahead[row[0]] = row[2]
     return True
 
 
@@ -57,7 +56,6 @@ def is_shared_branch(web, root, thing):
 
 
 def shared_sum(shares, numbers):
-    # Each number by its share, added up.
     top = 0
     bottom = 1
     for share, number in zip(shares, numbers):
@@ -90,7 +88,7 @@ def tree_show(web, place):
     must_be_place(web, place)
     must_be_tree(web)
     tall = heights_from(web, place)
-    inner = inner_ones(web, place)
+    inner = inner_neighbours(web, place)
     branch = [(other, inner[other], doubled(1, tall[other])) for other in outwards(web, place) if other != place]
     return [((1, 1), branch)] if len(branch) > 0 else []
 
@@ -105,4 +103,4 @@ def ring_show(n, place):
     must_be_place(ring_of_places(n), place)
     # Where n is odd both branches have the two farthest places, with the weights 2 and 1.
     share = (1, 2) if n % 2 == 0 else (1, 3)
-    return [(share, ring_branch(order[:(n + 1) // 2], place)) for order in orders(n, place)]
+    return [(share, ring_branch(order[:(n + 1) // 2], place)) for order in sweep_orders(n, place)]

@@ -13,7 +13,7 @@ def is_spread(web, heap):
 
 
 def heaps_of(many, stones):
-    # All heaps of just so many stones, rising.
+    # Rising, so that the first spread one of them is the first as tuples compare.
     if many == 1:
         return [(stones,)]
     found = []

@@ -20,7 +20,7 @@ def shown(web, heap):
 
 
 def number_written(word):
-    # The number that a word writes by figures, None where it writes none.
+    # By itself int would take blanks, signs and noughts ahead, too.
     if not 1 <= len(word) <= MOST_FIGURES or not all([sign in "0123456789" for sign in word]):
         return None
     if len(word) > 1 and word[0] == "0":
@@ -29,7 +29,6 @@ def number_written(word):
 
 
 def numbers_behind(word, row):
-    # The numbers behind a row's first word, None where that is another one or something else stands there.
     words = row.split(" ")
     numbers = [number_written(part) for part in words[1:]]
     if words[0] != word or None in numbers:

@@ -10,8 +10,7 @@ def must_be_tree(web):
         raise NotTree()
 
 
-def outer_ones(web, root):
-    # For each place the list of its outer neighbours.
+def outer_neighbours(web, root):
     away = ties_away(web, root)
     outer = []
     for place in range(web[0]):
@@ -19,23 +18,22 @@ def outer_ones(web, root):
     return outer
 
 
-def inner_ones(web, root):
-    # For each place its inner neighbour, None for the root itself.
+def inner_neighbours(web, root):
     inner = [None] * web[0]
-    for place, outer in enumerate(outer_ones(web, root)):
+    for place, outer in enumerate(outer_neighbours(web, root)):
         for other in outer:
             inner[other] = place
     return inner
 
 
 def outwards(web, root):
-    # The root first, near places ahead of far ones, of those as far the lesser ahead.
+    # So each place stands behind its inner neighbour and ahead of its outer ones.
     away = ties_away(web, root)
     return sorted(range(web[0]), key=lambda place: (away[place], place))
 
 
 def heights_from(web, root):
-    outer = outer_ones(web, root)
+    outer = outer_neighbours(web, root)
     tall = [0] * web[0]
     for place in reversed(outwards(web, root)):
         tall[place] = max([tall[other] + 1 for other in outer[place]], default=0)
@@ -51,8 +49,8 @@ def heights(web, place):
 
 def ways_from(web, root):
     tall = heights_from(web, root)
-    outer = outer_ones(web, root)
-    # The main one of a place stands first.
+    outer = outer_neighbours(web, root)
+    # A place's main one stands first there.
     ranked = [sorted(others, key=lambda other: (-tall[other], other)) for others in outer]
     found = []
     for place in range(web[0]):
